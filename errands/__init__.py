@@ -1,0 +1,1 @@
+"""Errands: what must be done, and what can't be."""
