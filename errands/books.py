@@ -42,18 +42,19 @@ def are_facts(book_facts, thing):
     return are_rising_words(thing) and all([fact in book_facts for fact in thing])
 
 
-def is_price(thing):
+def is_whole(thing, most):
+    """Whether it is a whole number from 0 to most."""
     # Python takes True and False for whole numbers; the document does not.
     if not isinstance(thing, int) or isinstance(thing, bool):
         return False
-    return 0 <= thing <= MOST_PRICE
+    return 0 <= thing <= most
 
 
 def is_errand(book_facts, thing):
     if not isinstance(thing, tuple) or len(thing) != 6:
         return False
     name, needs, bars, makes, ends, price = thing
-    if not is_word(name) or not is_price(price):
+    if not is_word(name) or not is_whole(price, MOST_PRICE):
         return False
     if not all([are_facts(book_facts, facts) for facts in (needs, bars, makes, ends)]):
         return False
@@ -125,17 +126,27 @@ def checked(book):
     return book
 
 
-def can(book, state):
-    """The list of the names of the errands that can be done, in order of the book."""
+def check_place(book, state):
+    """Refuse what is no book, then what is no state of it."""
     checked(book)
     check_state(book, state)
+
+
+def check_aim(book, state, want):
+    """Refuse what is no book, then what is no state, then what is no want of it."""
+    check_place(book, state)
+    check_want(book, want)
+
+
+def can(book, state):
+    """The list of the names of the errands that can be done, in order of the book."""
+    check_place(book, state)
     return [errand[0] for errand in book[1] if is_doable(errand, state)]
 
 
 def done(book, state, name):
     """The state behind the errand of that name."""
-    checked(book)
-    check_state(book, state)
+    check_place(book, state)
     errand = errand_called(book, name)
     if errand is None or not is_doable(errand, state):
         raise NoErrand("it is no name of an errand that can be done")
@@ -144,7 +155,5 @@ def done(book, state, name):
 
 def is_met(book, state, want):
     """Whether the state fulfils the want."""
-    checked(book)
-    check_state(book, state)
-    check_want(book, want)
+    check_aim(book, state, want)
     return fulfils(state, want)

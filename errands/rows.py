@@ -1,7 +1,7 @@
 """Rows of errands: where they lead, whether they serve, what they ask and cost."""
 
-from errands.books import check_state, check_want, checked, errand_called, fulfils
-from errands.books import is_doable, joined, share_none, state_behind, without
+from errands.books import check_aim, check_place, check_want, checked, errand_called
+from errands.books import fulfils, is_doable, joined, share_none, state_behind, without
 from errands.errors import NoRow
 
 MOST_IN_ROW = 64
@@ -45,8 +45,7 @@ def asked_by(errand, want):
 
 def leads(book, state, row):
     """The list of the states through which the row leads, the given one first."""
-    checked(book)
-    check_state(book, state)
+    check_place(book, state)
     errands = errands_of(book, row)
     states = states_through(errands, state)
     if len(states) <= len(errands):
@@ -56,9 +55,7 @@ def leads(book, state, row):
 
 def serves(book, state, want, row):
     """Whether the row can be done, and the state behind it fulfils the want."""
-    checked(book)
-    check_state(book, state)
-    check_want(book, want)
+    check_aim(book, state, want)
     errands = errands_of(book, row)
     states = states_through(errands, state)
     return len(states) > len(errands) and fulfils(states[-1], want)

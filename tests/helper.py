@@ -16,6 +16,13 @@ DAY = (
     ),
 )
 EMPTY = ((), ())
+# What is no state of DAY, and no want.
+BAD_STATES = (None, True, 0, "coins", ["coins"], ["bread", "coins"], ("coins", "bread"), ("coins", "coins"),
+              ("shop",), ("bread", "none"), (1,), (True,), (None,), (b"coins",), (("coins",),), {"coins"}, ("",))
+BAD_WANTS = (None, True, (), ((),), ((), (), ()), [(), ()], ([], ()), ((), []), (("coins",), ("coins",)),
+             (("bread", "coins"), ("coins", "hot")), (("coins", "bread"), ()), ((), ("coins", "bread")),
+             (("coins", "coins"), ()), ((), ("hot", "hot")), (("none",), ()), ((), ("none",)), (("shop",), ()),
+             ("coins", "hot"), "ab", (None, ()), ((), None), ((1,), ()), ((), (True,)), {"must": ()})
 
 
 class EqualToAll:
@@ -100,6 +107,71 @@ def random_books(seed, times):
             for _ in range(times) for facts in range(7) for errands in range(7)]
 
 
+def random_cases(seed, times, many):
+    """Tuples (book, state, want): of each of random_books as many as told."""
+    chance = random.Random(seed)
+    cases = []
+    for book in random_books(seed, times):
+        for _ in range(many):
+            state = chance.choice(subsets(book[0]))
+            cases.append((book, state, random_split(chance, book[0], chance.randint(0, 4))))
+    return cases
+
+
+def random_parts(chance, facts, most_left, most_right):
+    """Two rising tuples of the facts with nothing in common, of no more facts than told."""
+    left = chance.sample(facts, chance.randint(0, most_left))
+    others = [fact for fact in facts if fact not in left]
+    right = chance.sample(others, chance.randint(0, min(most_right, len(others))))
+    return tuple(sorted(left)), tuple(sorted(right))
+
+
+def lively_book(chance):
+    """A book with few facts in each errand, so that long rows lead to many states."""
+    facts = tuple("abcdef"[:chance.randint(3, 6)])
+    errands = []
+    for name in ("v", "w", "x", "y", "z", "zz")[:chance.randint(4, 6)]:
+        needs, bars = random_parts(chance, facts, 2, 1)
+        made = chance.choice(facts)
+        ends = random_parts(chance, [fact for fact in facts if fact != made], 2, 0)[0]
+        errands.append((name, needs, bars, (made,), ends, chance.choice((0, 0, 1, 2, 5, 9))))
+    return (facts, tuple(errands))
+
+
+def lively_cases(seed, many):
+    """Tuples (book, state, want): at least six states are reached, and most wants can be served."""
+    chance = random.Random(seed)
+    cases = []
+    while len(cases) < many:
+        book = lively_book(chance)
+        state = chance.choice(subsets(book[0])[:4])
+        states = sorted(model_rounds(book, state)[64])
+        if len(states) >= 6:
+            goal = chance.choice(states)
+            must = chance.sample(goal, chance.randint(len(goal) // 2, len(goal)))
+            others = [fact for fact in book[0] if fact not in must and chance.random() < 0.4]
+            bars = [fact for fact in others if fact not in goal or len(cases) % 4 == 0]
+            cases.append((book, state, (tuple(sorted(must)), tuple(sorted(bars)))))
+    return cases
+
+
+def counter(many, price):
+    """A book that counts: each errand adds one, so that the last of all states is as far off as can be."""
+    facts = tuple("abcdef"[:many])
+    return (facts, tuple([("zyxwvu"[at], facts[:at], (fact,), (fact,), facts[:at], price)
+                          for at, fact in enumerate(facts)]))
+
+
+def only(book, state):
+    """The want that this state alone fulfils."""
+    return (state, tuple(fact for fact in book[0] if fact not in state))
+
+
+def with_prices(book, price_of):
+    """The book with the price that price_of tells of each errand."""
+    return (book[0], tuple([errand[:5] + (price_of(errand),) for errand in book[1]]))
+
+
 def random_row(chance, book, most):
     names = [errand[0] for errand in book[1]]
     if not names:
@@ -130,6 +202,60 @@ def model_serves(book, state, want, row):
             return False
         state = model_done(book, state, name)
     return model_meets(state, want)
+
+
+def model_steps(book):
+    """For each state of the book the list of tuples (name, price, state behind)."""
+    prices = {errand[0]: errand[5] for errand in book[1]}
+    return {state: [(name, prices[name], model_done(book, state, name)) for name in model_can(book, state)]
+            for state in subsets(book[0])}
+
+
+def model_rounds(book, state):
+    """For each number from 0 to 64 the set of the states to which a row of up to so many errands leads."""
+    steps = model_steps(book)
+    rounds = [{state}]
+    for _ in range(64):
+        # Behind a round that brings nothing new none does.
+        still = len(rounds) > 1 and rounds[-1] == rounds[-2]
+        rounds.append(rounds[-1] if still else rounds[-1] | {
+            behind for at in rounds[-1] for _, _, behind in steps[at]})
+    return rounds
+
+
+def model_far(book, state, want):
+    for number, states in enumerate(model_rounds(book, state)):
+        if any(model_meets(at, want) for at in states):
+            return number
+    return None
+
+
+def model_least(book, state, want):
+    """The least price over all rows of up to 63 errands: behind more some state came twice, and nothing is below 0."""
+    steps = model_steps(book)
+    costs = {state: 0}
+    found = []
+    for _ in range(64):
+        found += [cost for at, cost in costs.items() if model_meets(at, want)]
+        further = {}
+        for at, cost in costs.items():
+            for _, price, behind in steps[at]:
+                further[behind] = min(cost + price, further.get(behind, cost + price))
+        costs = further
+    return min(found, default=None)
+
+
+def check_wrong_inputs(case, function, arguments):
+    """That whatever is wrong is refused, the other arguments being right.
+
+    arguments: for each argument a tuple (a good one, bad ones, the refusal of the bad ones).
+    """
+    goods = [good for good, _, _ in arguments]
+    function(*goods)
+    for place, (_, bads, refusal) in enumerate(arguments):
+        for bad in bads:
+            with case.subTest(function=function.__name__, place=place, kind=bad.__class__):
+                check_refused(case, refusal, function, *goods[:place], bad, *goods[place + 1:])
 
 
 def check_order(case, function, arguments):

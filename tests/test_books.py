@@ -4,16 +4,10 @@ import unittest
 
 from errands.books import can, checked, done, is_met
 from errands.errors import NoBook, NoErrand, NoState, NoWant
-from tests.helper import (DAY, EMPTY, check_order, check_refused, model_can, model_done, model_meets, odd_things,
-                          random_books, subsets, wants_of)
+from tests.helper import (BAD_STATES, BAD_WANTS, DAY, EMPTY, check_order, check_refused, model_can, model_done,
+                          model_meets, odd_things, random_books, subsets, wants_of)
 
 GOOD = ("go", ("a",), ("b",), ("b",), ("a",), 4)
-BAD_STATES = (None, True, 0, "coins", ["coins"], ["bread", "coins"], ("coins", "bread"), ("coins", "coins"),
-              ("shop",), ("bread", "none"), (1,), (True,), (None,), (b"coins",), (("coins",),), {"coins"}, ("",))
-BAD_WANTS = (None, True, (), ((),), ((), (), ()), [(), ()], ([], ()), ((), []), (("coins",), ("coins",)),
-             (("bread", "coins"), ("coins", "hot")), (("coins", "bread"), ()), ((), ("coins", "bread")),
-             (("coins", "coins"), ()), ((), ("hot", "hot")), (("none",), ()), ((), ("none",)), (("shop",), ()),
-             ("coins", "hot"), "ab", (None, ()), ((), None), ((1,), ()), ((), (True,)), {"must": ()})
 
 
 def spoilt_errand(place, thing):

@@ -18,6 +18,11 @@ UNUSED_NODES = (ast.Import, ast.With, ast.Match, ast.Global, ast.Nonlocal, ast.Y
                 ast.MatMult)
 
 
+METHODS = set("""append clear copy count endswith extend find get index insert isalnum isalpha isdigit islower isspace
+    isupper items join keys ljust lower lstrip partition pop remove replace reverse rfind rjust rpartition rsplit rstrip
+    setdefault split splitlines startswith strip update upper values zfill bit_length add discard sort""".split())
+
+
 def sources():
     return [(path, path.read_text(encoding="utf-8")) for path in sorted(PACKAGE.glob("*.py"))]
 
@@ -31,6 +36,13 @@ def bound_names(tree):
         if isinstance(node, ast.Assign):
             names.update(target.id for target in node.targets)
     return names
+
+
+def drawn_names(tree):
+    """The classes and imports of a file."""
+    names = {alias.asname or alias.name for node in tree.body if isinstance(node, ast.ImportFrom)
+             for alias in node.names}
+    return names | {node.name for node in tree.body if isinstance(node, ast.ClassDef)}
 
 
 class Language(unittest.TestCase):
@@ -92,6 +104,44 @@ class Language(unittest.TestCase):
                         if node.id in dir(builtins):
                             self.assertIn(node.id, OWN_NAMES)
                             self.assertIsInstance(node.ctx, ast.Load)
+
+    def test_no_name_has_two_meanings(self):
+        for path, text in sources():
+            tree = ast.parse(text)
+            taken = drawn_names(tree) | set(dir(builtins))
+            for node in ast.walk(tree):
+                with self.subTest(file=path.name, row=getattr(node, "lineno", None)):
+                    if isinstance(node, ast.arg):
+                        self.assertNotIn(node.arg, taken)
+                    if isinstance(node, ast.Name) and isinstance(node.ctx, ast.Store):
+                        self.assertNotIn(node.id, taken)
+            defined = [node.name for node in tree.body if isinstance(node, (ast.FunctionDef, ast.ClassDef))]
+            self.assertEqual(len(defined), len(set(defined)), path.name)
+            self.assertFalse(set(defined) & set(dir(builtins)), path.name)
+
+    def test_methods(self):
+        for path, text in sources():
+            for node in ast.walk(ast.parse(text)):
+                if isinstance(node, ast.Call) and isinstance(node.func, ast.Attribute):
+                    with self.subTest(file=path.name, row=node.lineno):
+                        self.assertIn(node.func.attr, METHODS)
+                        self.assertEqual(node.keywords, [])
+
+    def test_is_stands_beside_none_true_and_false_alone(self):
+        for path, text in sources():
+            for node in ast.walk(ast.parse(text)):
+                if isinstance(node, ast.Compare) and isinstance(node.ops[0], (ast.Is, ast.IsNot)):
+                    with self.subTest(file=path.name, row=node.lineno):
+                        self.assertIsInstance(node.comparators[0], ast.Constant)
+                        self.assertIn(node.comparators[0].value, (None, True, False))
+
+    def test_sets_are_not_walked(self):
+        for path, text in sources():
+            for node in ast.walk(ast.parse(text)):
+                if isinstance(node, (ast.For, ast.comprehension)):
+                    with self.subTest(file=path.name):
+                        self.assertNotIsInstance(node.iter, (ast.Set, ast.SetComp))
+                        self.assertNotRegex(ast.unparse(node.iter), r"^(set|frozenset)\(")
 
 
 if __name__ == "__main__":
