@@ -167,7 +167,7 @@ class ShortestRows(unittest.TestCase):
                              ("two", (), (), ("b",), (), 0)))
         self.assertEqual(shortest_rows(book, (), (("a", "b"), ())), 1)
 
-    def test_more_than_can_be_gone_through(self):
+    def test_a_longer_way_with_two_errands_for_each_step(self):
         errands = [(name, errand[1], errand[2], errand[3], errand[4], 1)
                    for errand in counter(3, 1)[1] for name in (errand[0], errand[0] * 2)]
         book = (("a", "b", "c"), tuple(errands))
