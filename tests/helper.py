@@ -16,13 +16,15 @@ DAY = (
     ),
 )
 EMPTY = ((), ())
-# What is no state of DAY, and no want.
+# What is no state of DAY, no want, and no row.
 BAD_STATES = (None, True, 0, "coins", ["coins"], ["bread", "coins"], ("coins", "bread"), ("coins", "coins"),
               ("shop",), ("bread", "none"), (1,), (True,), (None,), (b"coins",), (("coins",),), {"coins"}, ("",))
 BAD_WANTS = (None, True, (), ((),), ((), (), ()), [(), ()], ([], ()), ((), []), (("coins",), ("coins",)),
              (("bread", "coins"), ("coins", "hot")), (("coins", "bread"), ()), ((), ("coins", "bread")),
              (("coins", "coins"), ()), ((), ("hot", "hot")), (("none",), ()), ((), ("none",)), (("shop",), ()),
              ("coins", "hot"), "ab", (None, ()), ((), None), ((1,), ()), ((), (True,)), {"must": ()})
+BAD_ROWS = (None, True, 0, "shop", "", (), ("shop",), {"shop"}, {"shop": 1}, ["none"], ["shop", "none"], ["coins"],
+            [None], [True], [0], [b"shop"], [["shop"]], [("shop",)], ["rest"] * 65, ["Shop"], [""])
 
 
 class EqualToAll:
@@ -118,6 +120,11 @@ def random_cases(seed, times, many):
     return cases
 
 
+def few_facts(cases, most):
+    """Those of the cases that have a book of up to so many facts."""
+    return [case for case in cases if len(case[0][0]) <= most]
+
+
 def random_parts(chance, facts, most_left, most_right):
     """Two rising tuples of the facts with nothing in common, of no more facts than told."""
     left = chance.sample(facts, chance.randint(0, most_left))
@@ -202,6 +209,27 @@ def model_serves(book, state, want, row):
             return False
         state = model_done(book, state, name)
     return model_meets(state, want)
+
+
+def model_states(book, state, row):
+    """The states through which a row leads that can be done."""
+    states = [state]
+    for name in row:
+        states.append(model_done(book, states[-1], name))
+    return states
+
+
+def serving_rows(chance, book, state, want):
+    """Some rows that serve: walks by chance, cut off at each state that fulfils the want."""
+    rows = []
+    for _ in range(6):
+        row, at = [], state
+        while len(row) < 12 and model_can(book, at):
+            row.append(chance.choice(model_can(book, at)))
+            at = model_done(book, at, row[-1])
+            if model_meets(at, want):
+                rows.append(list(row))
+    return rows
 
 
 def model_steps(book):

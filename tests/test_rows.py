@@ -7,13 +7,11 @@ import unittest
 from errands.books import is_met
 from errands.errors import NoBook, NoRow, NoState, NoWant
 from errands.rows import asked, leads, price, serves
-from tests.helper import (DAY, EMPTY, check_order, check_refused, model_can, model_done, model_serves, odd_things,
-                          random_books, random_row, subsets, wants_of)
+from tests.helper import (BAD_ROWS, DAY, EMPTY, check_order, check_refused, model_can, model_done, model_serves,
+                          odd_things, random_books, random_row, subsets, wants_of)
 
 TOAST = (("toast",), ())
 BREAKFAST = ["shop", "light", "bake"]
-BAD_ROWS = (None, True, 0, "shop", "", (), ("shop",), {"shop"}, {"shop": 1}, ["none"], ["shop", "none"], ["coins"],
-            [None], [True], [0], [b"shop"], [["shop"]], [("shop",)], ["rest"] * 65, ["Shop"], [""])
 
 
 def bad_rows():
