@@ -42,19 +42,19 @@ def are_facts(book_facts, thing):
     return are_rising_words(thing) and all([fact in book_facts for fact in thing])
 
 
-def is_whole(thing, most):
-    """Whether it is a whole number from 0 to most."""
+def is_whole(thing, least, most):
+    """Whether it is a whole number from least to most."""
     # Python takes True and False for whole numbers; the document does not.
     if not isinstance(thing, int) or isinstance(thing, bool):
         return False
-    return 0 <= thing <= most
+    return least <= thing <= most
 
 
 def is_errand(book_facts, thing):
     if not isinstance(thing, tuple) or len(thing) != 6:
         return False
     name, needs, bars, makes, ends, price = thing
-    if not is_word(name) or not is_whole(price, MOST_PRICE):
+    if not is_word(name) or not is_whole(price, 0, MOST_PRICE):
         return False
     if not all([are_facts(book_facts, facts) for facts in (needs, bars, makes, ends)]):
         return False

@@ -72,7 +72,7 @@ def is_entry(book, thing):
     """Whether it is a tuple of a state and a number, as a paper has them."""
     if not isinstance(thing, tuple) or len(thing) != 2:
         return False
-    return are_facts(book[0], thing[0]) and is_whole(thing[1], MOST_NUMBER)
+    return are_facts(book[0], thing[0]) and is_whole(thing[1], 0, MOST_NUMBER)
 
 
 def numbers_of(book, paper):

@@ -44,6 +44,12 @@ def nearest(rows, want):
     return [at for at in fitting if len(rows[at]) == len(rows[fitting[0]])]
 
 
+def check_most(most):
+    """Refuse with NoNumber what is no number of errands that may be told."""
+    if not is_whole(most, 0, MOST_STEPS):
+        raise NoNumber("it is no whole number from 0 to 64")
+
+
 def reached(book, state):
     """The rising list of the states that are reached."""
     check_place(book, state)
@@ -53,8 +59,7 @@ def reached(book, state):
 def within(book, state, most):
     """The rising list of the states that are reached by no more errands than told."""
     check_place(book, state)
-    if not is_whole(most, MOST_STEPS):
-        raise NoNumber("it is no whole number from 0 to 64")
+    check_most(most)
     rows = first_rows(book, state)
     return sorted([at for at in rows if len(rows[at]) <= most])
 

@@ -25,6 +25,9 @@ BAD_WANTS = (None, True, (), ((),), ((), (), ()), [(), ()], ([], ()), ((), []), 
              ("coins", "hot"), "ab", (None, ()), ((), None), ((1,), ()), ((), (True,)), {"must": ()})
 BAD_ROWS = (None, True, 0, "shop", "", (), ("shop",), {"shop"}, {"shop": 1}, ["none"], ["shop", "none"], ["coins"],
             [None], [True], [0], [b"shop"], [["shop"]], [("shop",)], ["rest"] * 65, ["Shop"], [""])
+# What is no whole number from 0 to 64.
+BAD_NUMBERS = (None, True, False, -1, 65, 10 ** 40, -10 ** 40, "0", "64", b"1", (1,), [1], {1}, {1: 1}, "", (),
+               object())
 
 
 class EqualToAll:

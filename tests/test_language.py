@@ -38,6 +38,22 @@ def bound_names(tree):
     return names
 
 
+def own_methods():
+    """The names of all methods of the package's classes."""
+    return {method.name for _, text in sources() for node in ast.parse(text).body if isinstance(node, ast.ClassDef)
+            for method in node.body if isinstance(method, ast.FunctionDef)}
+
+
+def own_values():
+    """The names of all values that the package gives to objects."""
+    return {node.attr for _, text in sources() for node in ast.walk(ast.parse(text))
+            if isinstance(node, ast.Attribute) and isinstance(node.ctx, ast.Store)}
+
+
+def names_of_pythons_values():
+    return {name for kind in (str, int, list, dict, set, bytes) for name in dir(kind)}
+
+
 def drawn_names(tree):
     """The classes and imports of a file."""
     names = {alias.asname or alias.name for node in tree.body if isinstance(node, ast.ImportFrom)
@@ -124,8 +140,50 @@ class Language(unittest.TestCase):
             for node in ast.walk(ast.parse(text)):
                 if isinstance(node, ast.Call) and isinstance(node.func, ast.Attribute):
                     with self.subTest(file=path.name, row=node.lineno):
-                        self.assertIn(node.func.attr, METHODS)
+                        self.assertIn(node.func.attr, METHODS | own_methods())
                         self.assertEqual(node.keywords, [])
+
+    def test_own_methods_and_values(self):
+        methods = own_methods() - {"__init__"}
+        self.assertFalse([name for name in methods if name.startswith("_")])
+        self.assertEqual(methods & own_values(), set())
+        self.assertEqual((methods | own_values()) & names_of_pythons_values(), set())
+
+    def test_values_that_are_asked_are_given_somewhere(self):
+        for path, text in sources():
+            tree = ast.parse(text)
+            called = [node.func for node in ast.walk(tree) if isinstance(node, ast.Call)]
+            for node in ast.walk(tree):
+                if isinstance(node, ast.Attribute) and isinstance(node.ctx, ast.Load) and node not in called:
+                    with self.subTest(file=path.name, row=node.lineno):
+                        self.assertIn(node.attr, own_values())
+
+    def test_no_files_draw_from_one_another(self):
+        draws = {path.stem: {node.module.partition(".")[2] for node in ast.parse(text).body
+                             if isinstance(node, ast.ImportFrom)} for path, text in sources()}
+        left = dict(draws)
+        while left:
+            free = [name for name in left if not left[name] & set(left)]
+            self.assertNotEqual(free, [], sorted(left))
+            for name in free:
+                del left[name]
+
+    def test_names_are_given_once_at_the_top(self):
+        for path, text in sources():
+            given = []
+            for node in ast.parse(text).body:
+                given += [alias.name for alias in getattr(node, "names", [])]
+                given += [target.id for target in getattr(node, "targets", [])]
+                given += [node.name] if isinstance(node, (ast.FunctionDef, ast.ClassDef)) else []
+            self.assertEqual(len(given), len(set(given)), path.name)
+
+    def test_raised_errors_are_made_on_the_spot(self):
+        for path, text in sources():
+            for node in ast.walk(ast.parse(text)):
+                if isinstance(node, ast.Raise):
+                    with self.subTest(file=path.name, row=node.lineno):
+                        self.assertIsInstance(node.exc, ast.Call)
+                        self.assertIn(node.exc.func.id, bound_names(ast.parse((PACKAGE / "errors.py").read_text())))
 
     def test_is_stands_beside_none_true_and_false_alone(self):
         for path, text in sources():
