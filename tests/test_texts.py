@@ -128,15 +128,17 @@ class Read(unittest.TestCase):
         for text in ("", "\n", " ", "fact", "facts ", " facts", "Facts", "FACTS a", "facts  a", "facts a ",
                      "facts a  b", "facts\ta", "facts,", "facts, a", "facts a, b", "factsa", "facts b a", "facts a a",
                      "facts A", "facts abcdefg", "facts a1", "facts 1", "facts a b c d e f g", "a b", "needs a",
-                     "facts\u00a0a", "facts \u00e4", "facts\r", "facts a\r", "\ufefffacts", "facts a\x00", "facts a\u2028go 1"):
+                     "facts\u00a0a", "facts \u00e4", "facts\r", "facts a\r", "\ufefffacts", "facts a\x00",
+                     "facts a\u2028go 1"):
             with self.subTest(text=text):
                 check_refused(self, NoText, read, text)
 
     def test_lines_of_errands(self):
         for line in ("", " ", "go", "go ", "1", " 1", "go 10", "go 01", "go -1", "go +1", "go 1.", "go one",
                      "go \u0663", "go \u00b2", "go 1,", "go 1, ", "go 1,needs a", "go 1 ,needs a", "go 1 , needs a",
-                     "go 1  needs a", "go 1 needs a", "go, needs a", "go  1", " go 1", "go 1 ", "go 1\t", "go 1\r", "Go 1",
-                     "abcdefg 1", "go1", "go go 1", "1 go", "go 1 1", "go 1, needs", "go 1, needs ", "go 1, needs  a",
+                     "go 1  needs a", "go 1 needs a", "go, needs a", "go  1", " go 1", "go 1 ", "go 1\t", "go 1\r",
+                     "Go 1", "abcdefg 1", "go1", "go go 1", "1 go", "go 1 1", "go 1, needs", "go 1, needs ",
+                     "go 1, needs  a",
                      "go 1, needs a ", "go 1,  needs a", "go 1, needs a,", "go 1, needs a, ", "go 1, needs b a",
                      "go 1, needs a a", "go 1, needs c", "go 1, needs go", "go 1, need a", "go 1, Needs a", "go 1, a",
                      "go 1, needs a, needs b", "go 1, needs a, needs a", "go 1, needs a, bars b, needs a",
